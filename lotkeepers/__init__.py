@@ -1,0 +1,1 @@
+"""Lotkeepers: a store kept by asking lots of keepers."""

@@ -1,0 +1,54 @@
+"""What form a value has. A list is no tuple here, and True is no integer."""
+
+LETTERS = "abcdefghijklmnopqrstuvwxyz"
+
+
+def is_integer(value):
+    return isinstance(value, int) and not isinstance(value, bool)
+
+
+def is_from_to(value, low, high):
+    """Whether this is an integer from low to high."""
+    return is_integer(value) and low <= value <= high
+
+
+def is_row(value, many):
+    """Whether this is a tuple of so many values."""
+    return isinstance(value, tuple) and len(value) == many
+
+
+def is_told(value, word, many):
+    """Whether this is a tuple of so many values that begins with this word."""
+    return is_row(value, many) and value[0] == word
+
+
+def is_name(value):
+    if not isinstance(value, str) or not 1 <= len(value) <= 8:
+        return False
+    return all([sign in LETTERS for sign in value])
+
+
+def are_names(some):
+    """Whether these are unlike names."""
+    # Only names go into the set: other values may be such as no set takes.
+    return all([is_name(name) for name in some]) and len(set(some)) == len(some)
+
+
+def are_bits(value, many):
+    """Whether this is a string of so many of the characters 0 and 1."""
+    return isinstance(value, str) and len(value) == many and all([sign in "01" for sign in value])
+
+
+def wrong_line(text, can_stand, is_whole):
+    """The number by which a text is refused, None if it is not.
+
+    can_stand tells of lines and of one behind them whether it can stand there,
+    is_whole tells of lines that all can stand where they do whether none is missing.
+    """
+    if not isinstance(text, str):
+        return 0
+    lines = text.split("\n")
+    for number, line in enumerate(lines):
+        if not can_stand(lines[:number], line):
+            return number + 1
+    return None if is_whole(lines) else len(lines) + 1
