@@ -81,6 +81,12 @@ def read_pieces(words):
     return tuple([tuple(word.split("+")) for word in words])
 
 
+def shelf_text(parts, names, pieces):
+    """The text of the shelf that has these parts, keepers and, for each keeper, these pieces."""
+    words = [[name] + ["+".join(piece) for piece in row] for name, row in zip(names, pieces)]
+    return "\n".join([" ".join(["parts"] + list(parts))] + [" ".join(["keeper"] + row) for row in words])
+
+
 def all_spots(circle, pieces):
     return tuple([(keeper, number) for keeper, row in zip(circle.names, pieces) for number in range(len(row))])
 

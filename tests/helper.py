@@ -114,6 +114,17 @@ def one_of(rights):
     return lambda value: any(alike(value, right) for right in rights)
 
 
+def of_rows(word, rows):
+    """A judge of values: whether one is this word, and a tuple with one value out of each row, in sequence."""
+    def is_right(value):
+        if type(value) is not tuple or len(value) != 2 or value[0] != word:
+            return False
+        if type(value[1]) is not tuple or len(value[1]) != len(rows):
+            return False
+        return all(one_of(row)(held) for row, held in zip(rows, value[1]))
+    return is_right
+
+
 def all_lots(names):
     """All lots, in sequence, gone through by how many keepers they have."""
     return [lot for many in range(len(names) + 1) for lot in itertools.combinations(names, many)]

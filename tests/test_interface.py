@@ -17,10 +17,29 @@ FUNCTIONS = {
     },
     "chances": {"chance": "circle family each", "better": "circle one other", "shows_better": "circle one other value"},
     "shelves": {"answer": "shelf keeper record", "comes_to": "shelf spots"},
+    "bringing": {"brings": "shelf lot", "shows_brings": "shelf lot value", "unlike": "shelf lot", "bringing": "shelf"},
+    "answers": {
+        "told": "shelf answers", "shows_told": "shelf answers value", "fitting": "shelf answers",
+        "differ": "shelf answers record",
+    },
+    "spare": {
+        "spare": "shelf", "spare_pieces": "shelf", "same_lots": "one other", "shows_same_lots": "one other value",
+        "summed": "shelf changes",
+    },
+    "stores": {"store_of": "shelf writes asks"},
+    "sound": {"shared": "store write ask", "sound": "store", "shows_sound": "store value"},
+    "standing": {
+        "stands": "store number", "shows_stands": "store number value", "most_stood": "store", "left": "store lot",
+    },
+    "freest": {"askers": "store", "writers": "store", "freed": "store"},
 }
 CLASSES = {
     ("circles", "Circle"): {"__init__": "self names", "lot": "self some", "rest": "self lot", "__len__": "self"},
     ("shelves", "Shelf"): {"__init__": "self text", "__len__": "self"},
+    ("stores", "Store"): {
+        "__init__": "self text", "with_write": "self lot", "with_ask": "self lot", "without_write": "self number",
+        "without_ask": "self number",
+    },
 }
 
 
