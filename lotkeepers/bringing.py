@@ -36,10 +36,10 @@ def unlike(shelf, lot):
 
 def bringing(shelf):
     """The family of the least lots that bring back."""
-    every = shelf.circle.names
-    if not brings_back(shelf, every):
-        raise NeverBack(lost_record(shelf, every))
-    return least_of(shelf.circle, [lot for lot in lots(shelf.circle) if brings_back(shelf, lot)])
+    family = least_backs(shelf)
+    if family == ():
+        raise NeverBack(lost_record(shelf, shelf.circle.names))
+    return family
 
 
 def spots_of(shelf, lot):
@@ -74,6 +74,11 @@ def tells_all(shelf, spots):
 def brings_back(shelf, lot):
     """As brings, of what is known to be a lot."""
     return tells_all(shelf, spots_of(shelf, lot))
+
+
+def least_backs(shelf):
+    """The least lots that bring back, in sequence; none if not even all keepers do."""
+    return least_of(shelf.circle, [lot for lot in lots(shelf.circle) if brings_back(shelf, lot)])
 
 
 def is_lost(shelf, lot, record):

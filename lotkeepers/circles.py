@@ -30,7 +30,7 @@ class Circle:
     def rest(self, lot):
         """The lot of all other keepers."""
         refuse_lot(self, lot)
-        return tuple([name for name in self.names if name not in lot])
+        return less(self.names, lot)
 
 
 def lots(circle):
@@ -74,6 +74,11 @@ def are_lots(circle, value):
 
 def is_within(lot, other):
     return all([name in other for name in lot])
+
+
+def less(lot, other):
+    """The keepers of the lot that are not in the other one."""
+    return tuple([name for name in lot if name not in other])
 
 
 def common(lot, other):

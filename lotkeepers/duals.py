@@ -3,7 +3,7 @@
 from lotkeepers.circles import is_lot, lots
 from lotkeepers.errors import Unmet
 from lotkeepers.families import least_of, refuse_family
-from lotkeepers.forms import is_from_to, is_integer, is_row, is_told
+from lotkeepers.forms import is_integer, is_number_of, is_row, is_told
 
 
 def dual(circle, family):
@@ -30,7 +30,7 @@ def shows_meet(circle, one, other, value):
         return all([meets_all(lot, other) for lot in one])
     if not is_told(value, "apart", 3):
         return False
-    if not is_from_to(value[1], 0, len(one) - 1) or not is_from_to(value[2], 0, len(other) - 1):
+    if not is_number_of(value[1], one) or not is_number_of(value[2], other):
         return False
     return not meets(one[value[1]], other[value[2]])
 

@@ -2,7 +2,7 @@
 
 from lotkeepers.circles import are_lots, is_lot, is_within, lots, refuse_lot
 from lotkeepers.errors import BadFamily, BadLots
-from lotkeepers.forms import is_from_to, is_row, is_told
+from lotkeepers.forms import is_number_of, is_row, is_told
 
 
 def least(circle, some):
@@ -108,4 +108,4 @@ def has_one(some, lot):
 
 def is_number_within(some, lot, value):
     """Whether this is the number of one of some lots that is within the lot."""
-    return is_from_to(value, 0, len(some) - 1) and is_within(some[value], lot)
+    return is_number_of(value, some) and is_within(some[value], lot)

@@ -12,6 +12,11 @@ def is_from_to(value, low, high):
     return is_integer(value) and low <= value <= high
 
 
+def is_number_of(value, some):
+    """Whether this is the number of one of these."""
+    return is_from_to(value, 0, len(some) - 1)
+
+
 def is_row(value, many):
     """Whether this is a tuple of so many values."""
     return isinstance(value, tuple) and len(value) == many
@@ -20,6 +25,18 @@ def is_row(value, many):
 def is_told(value, word, many):
     """Whether this is a tuple of so many values that begins with this word."""
     return is_row(value, many) and value[0] == word
+
+
+def is_same(value, right):
+    """Whether any value is this right one, of tuples, integers, strings and None, at each depth."""
+    if isinstance(right, tuple):
+        return is_row(value, len(right)) and all([is_same(one, other) for one, other in zip(value, right)])
+    return not isinstance(value, bool) and value == right
+
+
+def is_one_of(value, rights):
+    """Whether any value is one of these right ones."""
+    return any([is_same(value, right) for right in rights])
 
 
 def is_name(value):
@@ -37,6 +54,14 @@ def are_names(some):
 def are_bits(value, many):
     """Whether this is a string of so many of the characters 0 and 1."""
     return isinstance(value, str) and len(value) == many and all([sign in "01" for sign in value])
+
+
+def all_bits(many):
+    """All strings of so many of the characters 0 and 1, ascending."""
+    rows = [""]
+    for _ in range(many):
+        rows = [row + sign for row in rows for sign in "01"]
+    return rows
 
 
 def wrong_line(text, can_stand, is_whole):

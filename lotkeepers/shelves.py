@@ -2,7 +2,7 @@
 
 from lotkeepers.circles import Circle
 from lotkeepers.errors import BadRecord, BadShelf, BadSum, NoKeeper
-from lotkeepers.forms import are_bits, are_names, is_integer, is_name, is_row, wrong_line
+from lotkeepers.forms import all_bits, are_bits, are_names, is_integer, is_name, is_row, wrong_line
 
 MOST_PARTS = 4
 LEAST_KEEPERS = 2
@@ -107,10 +107,7 @@ def odd_parts(parts, pieces):
 
 def records(shelf):
     """All records, ascending."""
-    rows = [""]
-    for _ in shelf.parts:
-        rows = [row + sign for row in rows for sign in "01"]
-    return rows
+    return all_bits(len(shelf.parts))
 
 
 def worth(shelf, piece, record):

@@ -3,7 +3,7 @@
 from lotkeepers.bringing import brings, shows_brings
 from lotkeepers.circles import common
 from lotkeepers.errors import Unsound
-from lotkeepers.forms import is_from_to, is_row, is_told
+from lotkeepers.forms import is_number_of, is_row, is_told
 from lotkeepers.stores import refuse_number
 
 
@@ -42,7 +42,7 @@ def refuse_unsound(store):
 
 
 def is_miss(store, write, ask, record):
-    if not is_from_to(write, 0, len(store.writes) - 1) or not is_from_to(ask, 0, len(store.asks) - 1):
+    if not is_number_of(write, store.writes) or not is_number_of(ask, store.asks):
         return False
     return shows_brings(store.shelf, shared(store, write, ask), ("lost", record))
 

@@ -2,7 +2,7 @@
 
 from lotkeepers.circles import are_lots, is_lot
 from lotkeepers.errors import BadLot, BadLots, BadStore, Full, Held, Last, NoLot
-from lotkeepers.forms import is_from_to, wrong_line
+from lotkeepers.forms import is_number_of, wrong_line
 from lotkeepers.shelves import LEAST_KEEPERS, Shelf, stands_in_shelf
 
 MOST_LOTS = 8
@@ -69,7 +69,7 @@ def without_lot(some, number):
 
 def refuse_number(some, value):
     """Unless this is the number of one of some lots of a store."""
-    if not is_from_to(value, 0, len(some) - 1):
+    if not is_number_of(value, some):
         raise NoLot(value)
 
 

@@ -7,7 +7,8 @@ import unittest
 FUNCTIONS = {
     "circles": {"lots": "circle", "both": "circle one other", "either": "circle one other"},
     "families": {
-        "least": "circle some", "has": "circle family lot", "shows_has": "circle family lot value", "within": "circle one other",
+        "least": "circle some", "has": "circle family lot", "shows_has": "circle family lot value",
+        "within": "circle one other",
         "shows_within": "circle one other value", "joined": "circle one other", "shared": "circle one other",
         "many": "circle family",
     },
@@ -32,6 +33,25 @@ FUNCTIONS = {
         "stands": "store number", "shows_stands": "store number value", "most_stood": "store", "left": "store lot",
     },
     "freest": {"askers": "store", "writers": "store", "freed": "store"},
+    "costs": {"needless": "store", "slack": "store", "cheapest_lots": "store prices"},
+    "changing": {
+        "by_choice": "store offers choice", "cheapest": "store offers wishes", "shows_cheapest": "store offers wishes value",
+    },
+    "judging": {"missed": "run", "shows_missed": "run value", "turned": "run", "shows_turned": "run value", "early": "run"},
+    "histories": {"seen": "run", "regular": "history", "shows_regular": "history value"},
+    "orders": {"zone": "history stamp", "one_at_a_time": "history", "shows_one_at_a_time": "history value"},
+    "allruns": {"misses": "store", "shows_misses": "store value"},
+    "turning": {"steady": "store", "shows_steady": "store value", "turning_run": "store write first second lot"},
+    "twice": {"doubled": "run", "owed": "run"},
+    "maybe": {"may_bring": "store state ask", "surely_brings": "store state ask"},
+    "lies": {
+        "overruled": "shelf lot bound", "shows_overruled": "shelf lot bound value", "overruling": "shelf bound",
+        "believed": "shelf answers bound", "nearest": "shelf answers",
+    },
+    "liars": {"liars": "shelf answers bound", "asked_more": "shelf answers bound"},
+    "honest": {
+        "honest": "store bound", "shows_honest": "store bound value", "most_lies": "store", "honest_askers": "store bound",
+    },
 }
 CLASSES = {
     ("circles", "Circle"): {"__init__": "self names", "lot": "self some", "rest": "self lot", "__len__": "self"},
@@ -39,6 +59,10 @@ CLASSES = {
     ("stores", "Store"): {
         "__init__": "self text", "with_write": "self lot", "with_ask": "self lot", "without_write": "self number",
         "without_ask": "self number",
+    },
+    ("runs", "Run"): {
+        "__init__": "self store deeds", "brought": "self read", "record": "self stamp", "has": "self keeper",
+        "told": "self read stamp",
     },
 }
 
