@@ -1,6 +1,6 @@
 """Which lots bring a record back, and by what sums."""
 
-from lotkeepers.circles import lots, refuse_lot
+from lotkeepers.circles import common, lots, refuse_lot
 from lotkeepers.errors import NeverBack
 from lotkeepers.families import least_of
 from lotkeepers.forms import is_row, is_told
@@ -81,10 +81,22 @@ def least_backs(shelf):
     return least_of(shelf.circle, [lot for lot in lots(shelf.circle) if brings_back(shelf, lot)])
 
 
+def greatest_back(shelf, held, lot):
+    """The greatest stamp that the lot brings back by those who have it, 0 if there is none.
+
+    held tells for each stamp, from 1 on, the lot of those who have its pieces.
+    """
+    return max([0] + [number + 1 for number, row in enumerate(held) if brings_back(shelf, common(lot, row))])
+
+
+def is_silent(shelf, lot, record):
+    """Whether all pieces of the lot have the value 0 on this record."""
+    return "1" not in "".join([answer(shelf, keeper, record) for keeper in lot])
+
+
 def is_lost(shelf, lot, record):
-    """Whether the record is not of noughts alone, and all pieces of the lot have the value 0 on it."""
-    told = "".join([answer(shelf, keeper, record) for keeper in lot])
-    return "1" in record and "1" not in told
+    """Whether the record is not of noughts alone, and the lot tells nothing of it."""
+    return "1" in record and is_silent(shelf, lot, record)
 
 
 def lost_record(shelf, lot):

@@ -6,7 +6,7 @@ from lotkeepers.errors import BadChoice, BadOffers, BadWishes
 from lotkeepers.forms import is_from_to, is_number_of, is_row, is_same, is_told
 from lotkeepers.shelves import MOST_KEEPERS, Shelf, shelf_text
 from lotkeepers.sound import sound
-from lotkeepers.spare import is_part_sum
+from lotkeepers.spare import is_piece
 from lotkeepers.standing import stands
 from lotkeepers.stores import MOST_LOTS, made_of
 
@@ -66,7 +66,7 @@ def are_offers(store, value):
 
 def is_offer(store, value):
     if is_told(value, "piece", 4):
-        return is_keeper_of_one(store.shelf, value[1]) and is_new_piece(store.shelf, value[2]) and is_price(value[3])
+        return is_keeper_of_one(store.shelf, value[1]) and is_piece(store.shelf, value[2]) and is_price(value[3])
     if is_told(value, "write", 3):
         return is_new(store, store.writes, value[1]) and is_price(value[2])
     return is_told(value, "ask", 3) and is_new(store, store.asks, value[1]) and is_price(value[2])
@@ -80,10 +80,6 @@ def is_new(store, some, value):
 def is_keeper_of_one(shelf, value):
     """Whether this is a keeper that has one piece."""
     return value in shelf.circle and len(shelf.pieces[shelf.circle.names.index(value)]) == 1
-
-
-def is_new_piece(shelf, value):
-    return is_part_sum(shelf, value) and value != ()
 
 
 def offered(offers, word):

@@ -64,7 +64,7 @@ def shared(circle, one, other):
     """The family that the lots have that have both."""
     refuse_family(circle, one)
     refuse_family(circle, other)
-    return least_of(circle, [circle.lot(lot + row) for lot in one for row in other])
+    return least_with_both(circle, one, other)
 
 
 def many(circle, family):
@@ -82,6 +82,11 @@ def least_of(circle, some):
         if lot in some and not has_one(kept, lot):
             kept.append(lot)
     return tuple(kept)
+
+
+def least_with_both(circle, one, other):
+    """The least lots that have one of these and one of those lots within."""
+    return least_of(circle, [circle.lot(lot + row) for lot in one for row in other])
 
 
 def is_family(circle, value):

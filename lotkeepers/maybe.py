@@ -1,6 +1,6 @@
 """What a read may bring that is asked from now on."""
 
-from lotkeepers.bringing import brings_back
+from lotkeepers.bringing import brings_back, greatest_back
 from lotkeepers.circles import common, is_lot, is_within
 from lotkeepers.errors import BadState
 from lotkeepers.forms import is_number_of, is_row
@@ -12,7 +12,7 @@ def may_bring(store, state, ask):
     """All stamps that such a read may bring."""
     refuse_state(store, state)
     refuse_number(store.asks, ask)
-    least = surely_brought(store, state, store.asks[ask])
+    least = greatest_back(store.shelf, [lot for _, lot in state], store.asks[ask])
     # Whoever of a writing lot has not got it yet may get it ahead of being asked.
     greater = range(least + 1, len(state) + 1)
     writes = [store.writes[number] for number, _ in state]
@@ -35,9 +35,3 @@ def is_part(store, value):
     if not is_row(value, 2) or not is_number_of(value[0], store.writes):
         return False
     return is_lot(store.shelf.circle, value[1]) and is_within(value[1], store.writes[value[0]])
-
-
-def surely_brought(store, state, lot):
-    """The greatest stamp that the keepers of this reading lot who have got it bring back, 0 if there is none."""
-    backs = [number + 1 for number, row in enumerate(state) if brings_back(store.shelf, common(row[1], lot))]
-    return max([0] + backs)

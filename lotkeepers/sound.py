@@ -15,24 +15,11 @@ def shared(store, write, ask):
 
 
 def sound(store):
-    papers = []
-    for write in range(len(store.writes)):
-        row = []
-        for ask in range(len(store.asks)):
-            told = brings(store.shelf, shared(store, write, ask))
-            if told[0] == "lost":
-                return ("misses", write, ask, told[1])
-            row.append(told[1])
-        papers.append(tuple(row))
-    return ("sound", tuple(papers))
+    return met(store, store, "sound")
 
 
 def shows_sound(store, value):
-    if is_told(value, "misses", 4):
-        return is_miss(store, value[1], value[2], value[3])
-    if not is_told(value, "sound", 2) or not is_row(value[1], len(store.writes)):
-        return False
-    return all([is_paper(store, write, row) for write, row in enumerate(value[1])])
+    return shows_met(store, store, "sound", value)
 
 
 def refuse_unsound(store):
@@ -41,15 +28,39 @@ def refuse_unsound(store):
         raise Unsound(told)
 
 
-def is_miss(store, write, ask, record):
-    if not is_number_of(write, store.writes) or not is_number_of(ask, store.asks):
-        return False
-    return shows_brings(store.shelf, shared(store, write, ask), ("lost", record))
+def met(one, other, word):
+    """Whether each writing lot of one and each reading lot of other share enough: this word, with papers, if so."""
+    papers = []
+    for write, lot in enumerate(one.writes):
+        row = []
+        for ask, asked in enumerate(other.asks):
+            told = brings(one.shelf, common(lot, asked))
+            if told[0] == "lost":
+                return ("misses", write, ask, told[1])
+            row.append(told[1])
+        papers.append(tuple(row))
+    return (word, tuple(papers))
 
 
-def is_paper(store, write, row):
-    """Whether this is what sound tells of a writing lot."""
-    if not is_row(row, len(store.asks)):
+def shows_met(one, other, word, value):
+    if is_told(value, "misses", 4):
+        return is_miss(one, other, value[1:])
+    if not is_told(value, word, 2) or not is_row(value[1], len(one.writes)):
         return False
-    lots_met = [shared(store, write, ask) for ask in range(len(store.asks))]
-    return all([shows_brings(store.shelf, lot, ("back", sums)) for lot, sums in zip(lots_met, row)])
+    return all([is_paper(one.shelf, lot, other.asks, row) for lot, row in zip(one.writes, value[1])])
+
+
+def is_miss(one, other, value):
+    """Whether these three values are as "misses" tells them of a writing lot of one and a reading lot of other."""
+    write, ask, record = value
+    if not is_number_of(write, one.writes) or not is_number_of(ask, other.asks):
+        return False
+    return shows_brings(one.shelf, common(one.writes[write], other.asks[ask]), ("lost", record))
+
+
+def is_paper(shelf, lot, asks, row):
+    """Whether these are the papers of a writing lot: sums for each reading lot."""
+    if not is_row(row, len(asks)):
+        return False
+    pairs = list(zip(asks, row))
+    return all([shows_brings(shelf, common(lot, asked), ("back", sums)) for asked, sums in pairs])

@@ -69,5 +69,10 @@ def is_part_sum(shelf, value):
     return isinstance(value, tuple) and value == tuple([part for part in shelf.parts if part in value])
 
 
+def is_piece(shelf, value):
+    """Whether this is a piece as the shelf tells it."""
+    return is_part_sum(shelf, value) and value != ()
+
+
 def changed(shelf, changes, piece):
     return odd_parts(shelf.parts, [row for part, row in zip(shelf.parts, changes) if part in piece])

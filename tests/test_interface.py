@@ -52,6 +52,29 @@ FUNCTIONS = {
     "honest": {
         "honest": "store bound", "shows_honest": "store bound value", "most_lies": "store", "honest_askers": "store bound",
     },
+    "forgetting": {"safe_below": "store holding", "let_go": "store holding stamp", "brought_by": "store holding ask"},
+    "mending": {
+        "mends": "shelf keeper helpers", "shows_mends": "shelf keeper helpers value", "helping": "shelf keeper",
+        "made": "shelf keeper sums answers",
+    },
+    "fetching": {
+        "fewest_fetched": "shelf keeper helpers", "shows_fewest_fetched": "shelf keeper helpers value",
+        "cheapest_fetched": "shelf keeper prices", "shows_cheapest_fetched": "shelf keeper prices value",
+    },
+    "plans": {
+        "plan": "shelf lost", "shows_plan": "shelf lost value", "cheapest_plan": "shelf lost prices",
+        "shows_cheapest_plan": "shelf lost prices value",
+    },
+    "repaired": {"after": "store lost", "risk": "store number", "most_lost": "store"},
+    "leading": {
+        "across": "one other", "shows_across": "one other value", "led": "way", "shows_led": "way value",
+        "copied": "way", "shows_copied": "way value",
+    },
+    "joint": {"joint": "one other", "by_joint": "one other"},
+    "passages": {"passage": "one other steps", "shows_passage": "one other steps value"},
+    "moving": {"without_keeper": "store keeper", "with_keeper": "store name pieces", "still": "store keeper"},
+    "wellness": {"audit": "house", "cure": "house", "spread": "house", "needed": "house"},
+    "journals": {"journal": "house", "read_journal": "text"},
 }
 CLASSES = {
     ("circles", "Circle"): {"__init__": "self names", "lot": "self some", "rest": "self lot", "__len__": "self"},
@@ -64,6 +87,13 @@ CLASSES = {
         "__init__": "self store deeds", "brought": "self read", "record": "self stamp", "has": "self keeper",
         "told": "self read stamp",
     },
+    ("houses", "House"): {
+        "__init__": "self store", "holds": "self keeper", "put": "self number record", "give": "self stamp keeper",
+        "fall": "self keeper", "rise": "self keeper", "lose": "self keeper", "mend": "self keeper helpers",
+        "read": "self number back", "let_go": "self stamp", "lead": "self other ask number", "undo": "self", "redo": "self",
+        "trial": "self", "keep": "self", "tried": "self look keep", "copy": "self", "__len__": "self", "__eq__": "self other",
+    },
+    ("desk", "Desk"): {"__init__": "self text", "say": "self line"},
 }
 
 
@@ -88,6 +118,10 @@ class TestInterface(unittest.TestCase):
             for method, named in rows.items():
                 self.assertIn(method, vars(held), name)
                 self.assertEqual(words(getattr(held, method)), named, (name, method))
+                kinds = {row.name: row.kind for row in inspect.signature(getattr(held, method)).parameters.values()}
+                by_name = [row for row in kinds if kinds[row] is not inspect.Parameter.POSITIONAL_OR_KEYWORD]
+                # Only what stands behind a `*` is passed by name alone.
+                self.assertEqual(by_name, ["keep"] if method == "tried" else [], (name, method))
 
 
 if __name__ == "__main__":

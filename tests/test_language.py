@@ -25,11 +25,11 @@ BARRED_WORDS = """type typing typing_extensions enum Enum IntEnum StrEnum Flag I
 NamedTuple TypedDict TYPE_CHECKING abstractmethod _wall _WallAttr""".split()
 BARRED_ATTRIBUTES = """items keys values pop update append clear extend insert remove reverse setdefault sort args encode decode hex
 fromhex format format_map mro""".split()
-DUNDERS = "__init__ __eq__ __len__ __contains__ __repr__ __str__".split()
+DUNDERS = "__init__ __eq__ __len__ __contains__ __repr__ __str__ __enter__ __exit__".split()
 STATEMENTS = (ast.FunctionDef, ast.ClassDef, ast.Return, ast.Assign, ast.AugAssign, ast.For, ast.While, ast.If, ast.Raise,
-              ast.Expr, ast.Pass, ast.Break, ast.Continue, ast.ImportFrom)
+              ast.Expr, ast.Pass, ast.Break, ast.Continue, ast.ImportFrom, ast.Try, ast.With)
 BARRED_NODES = (ast.GeneratorExp, ast.Lambda, ast.Await, ast.Yield, ast.YieldFrom, ast.AnnAssign, ast.NamedExpr, ast.Set,
-                ast.FormattedValue, ast.Starred, ast.Try, ast.With, ast.Global, ast.Nonlocal, ast.Delete, ast.Assert,
+                ast.FormattedValue, ast.Starred, ast.Global, ast.Nonlocal, ast.Delete, ast.Assert,
                 ast.AsyncFunctionDef, ast.Div, ast.MatMult, ast.Mod, ast.Pow, ast.Import)
 AT_ONCE = "zip enumerate reversed range".split()
 
@@ -189,7 +189,9 @@ class TestNames(unittest.TestCase):
                     self.assertIn(node.value, docstrings(tree), name)
                 if isinstance(node, ast.Assign):
                     self.assertEqual(len(node.targets), 1, name)
-                    self.assertIsInstance(ast.literal_eval(node.value), (int, str, tuple), name)
+                    held = ast.literal_eval(node.value)
+                    inner = list(held.values()) if isinstance(held, dict) else [held]
+                    self.assertTrue(all(isinstance(value, (int, str, tuple)) for value in inner), name)
 
     def test_names_of_others_are_not_taken(self):
         for name, tree in trees():
@@ -230,7 +232,8 @@ class TestNames(unittest.TestCase):
                     methods |= {row.name for row in node.body if isinstance(row, ast.FunctionDef)}
         self.assertFalse(stored & set(BARRED_ATTRIBUTES))
         self.assertFalse(stored & methods)
-        for word in stored | methods - set(DUNDERS):
+        # L26 lets methods be called as those that L25 lists.
+        for word in stored | methods - set(DUNDERS) - set(METHODS):
             for value in ("", 0, [], {}, set(), b"", ()):
                 self.assertFalse(hasattr(value, word), word)
         self.assertLessEqual(read, stored | methods | set(METHODS))
@@ -273,16 +276,67 @@ class TestClasses(unittest.TestCase):
             for node in ast.walk(tree):
                 if isinstance(node, ast.Name) and node.id in every:
                     over = above[node]
-                    base = isinstance(over, ast.ClassDef)
+                    base = isinstance(over, (ast.ClassDef, ast.ExceptHandler))
                     asked = called(over) == "isinstance" and over.args[1] is node
                     self.assertTrue(base or asked or isinstance(over, ast.Call) and over.func is node, (name, node.id))
 
-    def test_attributes_are_assigned_through_self(self):
+    def test_attributes_are_assigned_through_local_names(self):
+        for name, tree in trees():
+            for function in functions(tree):
+                for node in ast.walk(function):
+                    if isinstance(node, ast.Attribute) and isinstance(node.ctx, ast.Store):
+                        self.assertIsInstance(node.value, ast.Name, name)
+                        self.assertIn(node.value.id, bound_names(function), name)
+
+    def test_no_name_is_that_of_a_method_and_of_a_value_there(self):
         for name, tree in trees():
             for node in ast.walk(tree):
-                if isinstance(node, ast.Attribute) and isinstance(node.ctx, ast.Store):
-                    self.assertIsInstance(node.value, ast.Name, name)
-                    self.assertEqual(node.value.id, "self", name)
+                if not isinstance(node, ast.ClassDef):
+                    continue
+                held = {row.name for row in node.body if isinstance(row, ast.FunctionDef)}
+                own = {row.attr for row in ast.walk(node) if isinstance(row, ast.Attribute) and isinstance(row.ctx, ast.Store)}
+                self.assertFalse(held & own, (name, node.name))
+
+
+class TestBlocks(unittest.TestCase):
+    """L6 With, and L19 of what is caught."""
+
+    def test_caught_errors_are_own_ones(self):
+        errors = set(module_names(ast.parse(source("errors.py"))))
+        for name, tree in trees():
+            for node in ast.walk(tree):
+                if isinstance(node, ast.Try):
+                    self.assertEqual((node.finalbody, len(node.handlers)), ([], 1), name)
+                    self.assertIn(node.handlers[0].type.id, errors, name)
+
+    def test_blocks_are_those_of_own_objects(self):
+        for name, tree in trees():
+            entered = [function for function in functions(tree) if function.name in ("__enter__", "__exit__")]
+            for node in ast.walk(tree):
+                if isinstance(node, ast.With):
+                    self.assertEqual((len(node.items), len(entered)), (1, 2), name)
+                    self.assertIsInstance(node.items[0].context_expr, ast.Call, name)
+                    self.assertIsInstance(node.items[0].optional_vars, ast.Name, name)
+
+    def test_what_stands_in_exits(self):
+        for name, tree in trees():
+            for function in functions(tree):
+                if function.name == "__exit__":
+                    self.assertEqual(parameters(function), ["self", "kind", "value", "trace"], name)
+                    self.check_rows(name, function.body)
+                    read = [node.id for node in ast.walk(function) if isinstance(node, ast.Name)]
+                    self.assertFalse({"value", "trace"} & set(read), name)
+
+    def check_rows(self, name, rows):
+        for row in rows:
+            if isinstance(row, ast.If):
+                kinds = (ast.BoolOp, ast.UnaryOp, ast.Compare, ast.Name, ast.Attribute, ast.Constant, ast.boolop, ast.Not,
+                         ast.Is, ast.IsNot, ast.Load)
+                self.assertTrue(all(isinstance(node, kinds) for node in ast.walk(row.test)), name)
+                self.check_rows(name, row.body + row.orelse)
+            else:
+                self.assertIsInstance(row, ast.Assign, name)
+                self.assertIsInstance(row.value, (ast.Attribute, ast.Name), name)
 
 
 class TestCode(unittest.TestCase):
