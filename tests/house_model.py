@@ -20,8 +20,10 @@ from test_sound import FEW, SMALL, drawn_stores, is_sound
 from test_stores import STORE
 
 CROSSING = store_of(SHELF, (("a", "b", "c"), ("a", "b", "c", "d")), (("a", "b"), ("b", "c"), ("a", "c", "d"), ("a", "b", "c")))
-SPREAD = store_of(SIX_KEEP, (("f", "e", "d", "c"), ("e", "c", "b", "a")), (("f", "e", "d"), ("d", "c", "b"), ("f", "b", "a"), ("e",)))
-SIX_PARTS = store_of(SHELVES[3], (("f", "e", "d", "c"), SHELVES[3].circle.names), (("f", "e", "d", "c"), ("f", "e", "d", "c", "a")))
+SPREAD = store_of(SIX_KEEP, (("f", "e", "d", "c"), ("e", "c", "b", "a")),
+                  (("f", "e", "d"), ("d", "c", "b"), ("f", "b", "a"), ("e",)))
+SIX_PARTS = store_of(SHELVES[3], (("f", "e", "d", "c"), SHELVES[3].circle.names),
+                     (("f", "e", "d", "c"), ("f", "e", "d", "c", "a")))
 SOUND = [ASKED, SMALL, FEW, SECOND, SIX_PARTS, store_of(TWO_EACH, (("c", "a"), ("a", "b")), (("c", "b"), ("c", "a", "b")))]
 NO_STAMPS = [0, -1, None, True, False, "1", "", (), (1,), [1], {}, deep(30), 999999999, "a", SHELF]
 NO_BACKS = [-1, 8, True, False, "0", "", (), (0,), [0], {}, ("a",), deep(30), 999999999]
@@ -51,7 +53,8 @@ class State:
             self.ever[keeper].add(stamp)
 
     def ended(self):
-        return tuple(stamp for stamp in self.stamps() if all(stamp in self.ever[keeper] for keeper in self.writes[stamp - 1][1]))
+        return tuple(stamp for stamp in self.stamps() if all(stamp in self.ever[keeper]
+                                                             for keeper in self.writes[stamp - 1][1]))
 
     def back(self, lot):
         """All stamps that a lot brings back by those who have them."""
@@ -89,7 +92,8 @@ def is_number(value, some):
 
 
 def is_lot(names, value):
-    return type(value) is tuple and all(type(name) is str for name in value) and value == tuple(name for name in names if name in value)
+    return type(value) is tuple and all(type(name) is str for name in value) and value == tuple(name for name in names
+                                                                                                if name in value)
 
 
 def first_error(state, word, *some):
@@ -163,7 +167,8 @@ def lead_errors(state, other, ask, number):
     yield "Down", fallen, lambda: bool(fallen)
 
 
-ERRORS = {"put": put_errors, "give": give_errors, "fall": fall_errors, "rise": rise_errors, "lose": fall_errors, "mend": mend_errors,
+ERRORS = {"put": put_errors, "give": give_errors, "fall": fall_errors, "rise": rise_errors, "lose": fall_errors,
+          "mend": mend_errors,
           "read": read_errors, "let_go": let_go_errors, "lead": lead_errors}
 
 

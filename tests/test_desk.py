@@ -17,14 +17,22 @@ from test_stores import STORE
 from test_wellness import right_audit
 
 NO_LINES = [
-    "", " ", "x", "put", "put 0", "put 0 ", "put 0 00 0", "put  0 00", " put 0 00", "put 0 00 ", "put a 00", "put +0 00", "put 00 00", "put -0 00",
-    "put 0x0 00", "put 1.0 00", "put 1_0 00", "PUT 0 00", "give", "give 1", "give a 1", "give 1 a b", "give 01 a", "fall", "fall ", "fall a b", "falla",
-    "rise", "rise a b", "lose", "lose a b", "mend", "mend ", "mend a ", "mend  a", "mend a  b", "read", "read ", "read a", "read 0 a", "read a 0",
-    "read 0 0 0", "read 00", "read +1", "read -0", "read 0 01", "read 0 None", "letgo", "letgo a", "letgo 1 1", "letgo +1", "let_go 1", "lead",
-    "lead a/b", "lead a/b 0", "lead a/b 0 0 0", "lead a/b a 0", "lead a/b 0 a", "lead ab 0 0", "lead / 0 0", "lead a/ 0 0", "lead /a 0 0", "lead a//b 0 0",
-    "lead a/b/c 0 0", "lead a/b/ 0 0", "lead a,/b 0 0", "lead ,a/b 0 0", "lead a/b, 0 0", "lead a,,b/c 0 0", "lead a./b 0 0", "lead .a/b 0 0",
-    "lead a..b/c 0 0", "lead a/.b 0 0", "lead a/b. 0 0", "lead a/b,.c 0 0", "lead a/b 01 0", "lead a/b 0 -0", "undo 1", "undo ", " undo", "Undo", "undo undo",
-    "redo 1", "redo ", "holds", "holds ", "holds a b", "holds  a", " holds a", "audit ", "audit a", "ended 1", "ended ", "down a", " down", "down ",
+    "", " ", "x", "put", "put 0", "put 0 ", "put 0 00 0", "put  0 00", " put 0 00", "put 0 00 ", "put a 00", "put +0 00",
+    "put 00 00", "put -0 00",
+    "put 0x0 00", "put 1.0 00", "put 1_0 00", "PUT 0 00", "give", "give 1", "give a 1", "give 1 a b", "give 01 a", "fall",
+    "fall ", "fall a b", "falla",
+    "rise", "rise a b", "lose", "lose a b", "mend", "mend ", "mend a ", "mend  a", "mend a  b", "read", "read ", "read a",
+    "read 0 a", "read a 0",
+    "read 0 0 0", "read 00", "read +1", "read -0", "read 0 01", "read 0 None", "letgo", "letgo a", "letgo 1 1", "letgo +1",
+    "let_go 1", "lead",
+    "lead a/b", "lead a/b 0", "lead a/b 0 0 0", "lead a/b a 0", "lead a/b 0 a", "lead ab 0 0", "lead / 0 0", "lead a/ 0 0",
+    "lead /a 0 0", "lead a//b 0 0",
+    "lead a/b/c 0 0", "lead a/b/ 0 0", "lead a,/b 0 0", "lead ,a/b 0 0", "lead a/b, 0 0", "lead a,,b/c 0 0", "lead a./b 0 0",
+    "lead .a/b 0 0",
+    "lead a..b/c 0 0", "lead a/.b 0 0", "lead a/b. 0 0", "lead a/b,.c 0 0", "lead a/b 01 0", "lead a/b 0 -0", "undo 1",
+    "undo ", " undo", "Undo", "undo undo",
+    "redo 1", "redo ", "holds", "holds ", "holds a b", "holds  a", " holds a", "audit ", "audit a", "ended 1", "ended ",
+    "down a", " down", "down ",
     "house", "journal", "keep", "trial", "copy", "records", "done", "store", "spread", "cure", "needed", "None", "0",
 ]
 
@@ -48,7 +56,8 @@ class TestDesk(HouseChecks, unittest.TestCase):
         for value in [value for value in junk() if not isinstance(value, str)] + [House(ASKED)]:
             self.check_raises(BadJournal, 0, Desk, value)
             self.check_raises(BadJournal, 0, Desk, text=value)
-        for text, number in (("", 2), ("house", 1), (STORE.text + "\nhouse", 11), (ASKED.text + "\nhouse\nfall z", 11), (ASKED.text, 10)):
+        for text, number in (("", 2), ("house", 1), (STORE.text + "\nhouse", 11), (ASKED.text + "\nhouse\nfall z", 11),
+                             (ASKED.text, 10)):
             self.check_raises(BadJournal, number, Desk, text)
 
     def test_the_very_house(self):
@@ -109,12 +118,18 @@ class TestDesk(HouseChecks, unittest.TestCase):
 
     def test_each_answer(self):
         desk = Desk(CROSSING.text + "\nhouse")
-        for line, answer in (("ended", "-"), ("down", "-"), ("audit", "well"), ("read 0", "0 00"), ("holds a", "0"), ("fall b", "ok"), ("put 1 10", "1"),
-                             ("down", "b"), ("rise b", "ok"), ("mend b a c", "1"), ("mend b a c", "-"), ("mend b", "-"), ("ended", "1"), ("put 0 11", "2"),
-                             ("read 2", "2 11"), ("read 2 1", "2"), ("lose a", "ok"), ("lose b", "ok"), ("audit", "ill 0 0"), ("mend a c d", "1 2"),
-                             ("give 1 b", "ok"), ("audit", "ill 0 1"), ("undo", "ok"), ("audit", "ill 0 0"), ("redo", "ok"), ("give 2 b", "ok"),
-                             ("holds b", "0 1 2"), ("letgo 2", "ok"), ("holds b", "0 2"), ("lead a.b.c/a.b,b.c 0 0", "ok"), ("ended", "1 2"),
-                             ("audit", "well"), ("read 1", "2 11"), ("read 1 0", "2"), ("fall d", "ok"), ("fall a", "ok"), ("down", "a d")):
+        for line, answer in (("ended", "-"), ("down", "-"), ("audit", "well"), ("read 0", "0 00"), ("holds a", "0"),
+                             ("fall b", "ok"), ("put 1 10", "1"),
+                             ("down", "b"), ("rise b", "ok"), ("mend b a c", "1"), ("mend b a c", "-"), ("mend b", "-"),
+                             ("ended", "1"), ("put 0 11", "2"),
+                             ("read 2", "2 11"), ("read 2 1", "2"), ("lose a", "ok"), ("lose b", "ok"), ("audit", "ill 0 0"),
+                             ("mend a c d", "1 2"),
+                             ("give 1 b", "ok"), ("audit", "ill 0 1"), ("undo", "ok"), ("audit", "ill 0 0"), ("redo", "ok"),
+                             ("give 2 b", "ok"),
+                             ("holds b", "0 1 2"), ("letgo 2", "ok"), ("holds b", "0 2"), ("lead a.b.c/a.b,b.c 0 0", "ok"),
+                             ("ended", "1 2"),
+                             ("audit", "well"), ("read 1", "2 11"), ("read 1 0", "2"), ("fall d", "ok"), ("fall a", "ok"),
+                             ("down", "a d")):
             self.check_same(desk.say(line), answer)
         self.check_same(desk.house.store.asks, (("a", "b"), ("b", "c")))
 
@@ -133,13 +148,15 @@ class TestLines(HouseChecks, unittest.TestCase):
         self.before = seen(self.desk.house)
 
     def test_lines_of_no_form(self):
-        for line in NO_LINES + [line for line in junk() if isinstance(line, str)] + ["fall a\n", "\nfall a", "ended\nended", "\n", "fall\na", "holds a\n"]:
+        for line in NO_LINES + [line for line in junk() if isinstance(line, str)] + ["fall a\n", "\nfall a", "ended\nended",
+                                                                                     "\n", "fall\na", "holds a\n"]:
             self.check_keeps(BadLine, line, self.desk.say, line)
             self.check_keeps(BadLine, line, self.desk.say, line=line)
             self.check_same(seen(self.desk.house), self.before)
 
     def test_no_strings(self):
-        for value in [value for value in junk() if not isinstance(value, str)] + [["undo"], ("fall", "a"), b"undo", deep(30), self.desk]:
+        for value in [value for value in junk() if not isinstance(value, str)] + [["undo"], ("fall", "a"), b"undo", deep(30),
+                                                                                  self.desk]:
             self.check_keeps(BadLine, value, self.desk.say, value)
         self.check_same(seen(self.desk.house), self.before)
 
@@ -152,18 +169,30 @@ class TestLines(HouseChecks, unittest.TestCase):
 
     def test_lines_that_raise(self):
         for line, error, value in (
-                ("put 9 00", NoLot, 9), ("put -1 00", NoLot, -1), ("put 9 zz", NoLot, 9), ("put 0 zz", BadRecord, "zz"), ("put 0 000", BadRecord, "000"),
-                ("give 0 a", NoStamp, 0), ("give -1 z", NoStamp, -1), ("give 3 a", NoStamp, 3), ("give 1 z", NoKeeper, "z"), ("give 1 d", errors.NotOf, "d"),
-                ("give 1 b", errors.NotOf, "b"), ("give 2 d", errors.Down, ("d",)), ("fall z", NoKeeper, "z"), ("fall 1", NoKeeper, "1"),
-                ("fall d", errors.Down, ("d",)), ("rise z", NoKeeper, "z"), ("rise a", errors.IsUp, "a"), ("lose d", errors.Down, ("d",)),
-                ("lose A", NoKeeper, "A"), ("mend z", NoKeeper, "z"), ("mend a a", errors.BadHelpers, ("a",)), ("mend a c b", errors.BadHelpers, ("c", "b")),
-                ("mend a z", errors.BadHelpers, ("z",)), ("mend a d", errors.Down, ("d",)), ("mend d", errors.Down, ("d",)), ("read 9", NoLot, 9),
-                ("read -1", NoLot, -1), ("read 2", errors.Down, ("d",)), ("read 9 9", NoLot, 9), ("read 0 9", NoLot, 9), ("read 0 -1", NoLot, -1),
-                ("read 0 1", errors.Down, ("d",)), ("letgo 0", NoStamp, 0), ("letgo 3", NoStamp, 3), ("letgo -1", NoStamp, -1), ("letgo 2", errors.Unsafe, 0),
-                ("lead a.b.c/b.a 0 0", BadLots, (("b", "a"),)), ("lead z/b.a 0 0", BadLots, (("z",),)), ("lead a,a/a 0 0", BadLots, (("a",), ("a",))),
-                ("lead a.b.c/a.a 9 9", BadLots, (("a", "a"),)), ("lead A/a 0 0", BadLots, (("A",),)), ("lead a.b.c/a.b 9 0", NoLot, 9),
-                ("lead a.b.c/a.b 0 9", NoLot, 9), ("lead a.b.c/a.b -1 -2", NoLot, -1), ("lead a.b.c/a.b 2 0", errors.Down, ("d",)),
-                ("lead a/a.b 0 0", errors.Unsound, ("misses", 0, 0, "01")), ("holds z", NoKeeper, "z"), ("holds 0", NoKeeper, "0"), ("redo", NothingToRedo, None)):
+                ("put 9 00", NoLot, 9), ("put -1 00", NoLot, -1), ("put 9 zz", NoLot, 9), ("put 0 zz", BadRecord, "zz"),
+                ("put 0 000", BadRecord, "000"),
+                ("give 0 a", NoStamp, 0), ("give -1 z", NoStamp, -1), ("give 3 a", NoStamp, 3), ("give 1 z", NoKeeper, "z"),
+                ("give 1 d", errors.NotOf, "d"),
+                ("give 1 b", errors.NotOf, "b"), ("give 2 d", errors.Down, ("d",)), ("fall z", NoKeeper, "z"),
+                ("fall 1", NoKeeper, "1"),
+                ("fall d", errors.Down, ("d",)), ("rise z", NoKeeper, "z"), ("rise a", errors.IsUp, "a"),
+                ("lose d", errors.Down, ("d",)),
+                ("lose A", NoKeeper, "A"), ("mend z", NoKeeper, "z"), ("mend a a", errors.BadHelpers, ("a",)),
+                ("mend a c b", errors.BadHelpers, ("c", "b")),
+                ("mend a z", errors.BadHelpers, ("z",)), ("mend a d", errors.Down, ("d",)), ("mend d", errors.Down, ("d",)),
+                ("read 9", NoLot, 9),
+                ("read -1", NoLot, -1), ("read 2", errors.Down, ("d",)), ("read 9 9", NoLot, 9), ("read 0 9", NoLot, 9),
+                ("read 0 -1", NoLot, -1),
+                ("read 0 1", errors.Down, ("d",)), ("letgo 0", NoStamp, 0), ("letgo 3", NoStamp, 3),
+                ("letgo -1", NoStamp, -1), ("letgo 2", errors.Unsafe, 0),
+                ("lead a.b.c/b.a 0 0", BadLots, (("b", "a"),)), ("lead z/b.a 0 0", BadLots, (("z",),)),
+                ("lead a,a/a 0 0", BadLots, (("a",), ("a",))),
+                ("lead a.b.c/a.a 9 9", BadLots, (("a", "a"),)), ("lead A/a 0 0", BadLots, (("A",),)),
+                ("lead a.b.c/a.b 9 0", NoLot, 9),
+                ("lead a.b.c/a.b 0 9", NoLot, 9), ("lead a.b.c/a.b -1 -2", NoLot, -1),
+                ("lead a.b.c/a.b 2 0", errors.Down, ("d",)),
+                ("lead a/a.b 0 0", errors.Unsound, ("misses", 0, 0, "01")), ("holds z", NoKeeper, "z"),
+                ("holds 0", NoKeeper, "0"), ("redo", NothingToRedo, None)):
             with self.subTest(line):
                 self.check_due(error, value, line)
                 self.check_same(seen(self.desk.house), self.before)
@@ -209,7 +238,8 @@ class TestLines(HouseChecks, unittest.TestCase):
         self.check_same(journal(self.desk.house).split("\n")[-1], "read 1 0")
 
     def test_integers_as_python_writes_them(self):
-        words = ["0", "-0", "+0", "00", "1", "01", "-1", "--1", "-", "1-", "1 ", "12", "1e1", "0x1", "1_0", "one", "0.0", "-01", "999999999"]
+        words = ["0", "-0", "+0", "00", "1", "01", "-1", "--1", "-", "1-", "1 ", "12", "1e1", "0x1", "1_0", "one", "0.0",
+                 "-01", "999999999"]
         for word in words:
             line = "letgo " + word
             if " " in word or integer_of(word) is None:
@@ -228,7 +258,8 @@ class TestLines(HouseChecks, unittest.TestCase):
     def test_a_model_is_told_alike(self):
         desk = Desk(ASKED.text + "\nhouse")
         model = Model(ASKED)
-        for deed in (("put", 0, "10"), ("fall", "b"), ("put", 0, "01"), ("rise", "b"), ("mend", "b", ("a", "c")), ("read", 1, 0), ("lose", "c"),
+        for deed in (("put", 0, "10"), ("fall", "b"), ("put", 0, "01"), ("rise", "b"), ("mend", "b", ("a", "c")),
+                     ("read", 1, 0), ("lose", "c"),
                      ("let_go", 1)):
             due = first_error(model.state(), *deed)
             if due is None:

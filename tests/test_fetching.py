@@ -4,7 +4,7 @@ import itertools
 import random
 import unittest
 
-from helper import Checks, alike, all_lots, junk, near
+from helper import Checks, alike, junk, near
 from lotkeepers.errors import BadHelpers, BadPrices, NoHelp, NoKeeper
 from lotkeepers.fetching import cheapest_fetched, fewest_fetched, shows_cheapest_fetched, shows_fewest_fetched
 from lotkeepers.shelves import Shelf
@@ -71,7 +71,8 @@ class TestFewest(Checks, unittest.TestCase):
             for value in ((len(some), some), (rights[0][0], some)):
                 self.assertIs(shows_fewest_fetched(shelf, keeper, helpers, value), value in rights, value)
         if near_too:
-            self.check_shows(shows_fewest_fetched, (shelf, keeper, helpers), lambda value: self.is_right(value, rights), rights[:3])
+            self.check_shows(shows_fewest_fetched, (shelf, keeper, helpers), lambda value: self.is_right(value, rights),
+                             rights[:3])
         return len(rights) > 1
 
     def is_right(self, value, rights):
@@ -142,7 +143,8 @@ class TestCheapest(Checks, unittest.TestCase):
         several = 0
         for shelf in SMALL_ONES:
             for keeper in shelf.circle.names:
-                for prices in [(1,) * len(shelf.circle), (9,) * len(shelf.circle)] + [drawn_prices(draw, shelf) for _ in range(4)]:
+                for prices in [(1,) * len(shelf.circle), (9,) * len(shelf.circle)] + [drawn_prices(draw,
+                                                                                                   shelf) for _ in range(4)]:
                     several += self.check_prices(shelf, keeper, prices, False)
         self.assertGreater(several, 20)
 
@@ -179,7 +181,8 @@ class TestCheapest(Checks, unittest.TestCase):
         self.check_refuses(BadPrices, NO_PRICES, lambda value: cheapest_fetched(never, "a", value))
         self.check_raises(NoHelp, 0, cheapest_fetched, never, "a", PRICES)
         for value in near(PRICES):
-            if type(value) is not tuple or len(value) != 4 or not all(type(price) is int and 1 <= price <= 9 for price in value):
+            if type(value) is not tuple or len(value) != 4 or not all(type(price) is int and 1 <= price <= 9
+                                                                      for price in value):
                 self.check_keeps(BadPrices, value, cheapest_fetched, SHELF, "a", value)
 
 

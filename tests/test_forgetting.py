@@ -13,7 +13,7 @@ from lotkeepers.stores import store_of
 from test_bringing import NEVER
 from test_freest import crossing
 from test_maybe import drawn_states
-from test_runs import ALIKE, ASKED, CROSSED, FOUR, NO_NUMBERS, STORES, back, drawn_runs
+from test_runs import ALIKE, ASKED, CROSSED, NO_NUMBERS, STORES, back, drawn_runs
 from test_shelves import SHELF
 from test_sound import drawn_stores
 

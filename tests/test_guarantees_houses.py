@@ -31,7 +31,7 @@ from test_leading import drawn_ways
 from test_lies import FIVE, TWO_EACH
 from test_mending import all_helpers
 from test_passages import drawn_cases
-from test_shelves import SHELF, SHELVES, all_records
+from test_shelves import SHELVES, all_records
 
 SOME = SHELVES[:3] + NEVER + [FIVE, TWO_EACH] + list(small_shelves())[::4]
 RAISED = (Emptied, NoHelp, NoPlan, TooFew, TooMany, Unsound)
@@ -74,7 +74,8 @@ def renamed_deed(deed):
 def told_of(house):
     """All that is told of a house by numbers alone."""
     return (house.ended, house.done, len(house), audit(house), needed(house), tuple(
-        house.copy().read(number, None) if not set(lot) & set(house.down) else "down" for number, lot in enumerate(house.store.asks)))
+        house.copy().read(number, None) if not set(lot) & set(house.down) else "down" for number,
+        lot in enumerate(house.store.asks)))
 
 
 class TestNames(unittest.TestCase):
@@ -108,7 +109,8 @@ class TestNames(unittest.TestCase):
             for lost in all_lots(shelf.circle.names):
                 mended = never_mended(shelf, lost)
                 self.assertEqual(never_mended(other, lot_of(lost)), None if mended is None else lot_of(mended))
-                one, two = outcome(cheapest_plan, shelf, lost, prices), outcome(cheapest_plan, other, lot_of(lost), prices[::-1])
+                one, two = outcome(cheapest_plan, shelf, lost, prices), outcome(cheapest_plan, other, lot_of(lost),
+                                                                                prices[::-1])
                 if one[0] == "NoPlan":
                     self.assertEqual(two, renamed_outcome(one))
                 else:
@@ -175,7 +177,8 @@ class TestNames(unittest.TestCase):
                 if deed[0] == "read":
                     deed = ("read", asks - deed[1], writes - deed[2])
                 house_call(other, deed)
-            self.assertEqual((other.ended, spread(other), needed(other), cure(other)), (house.ended, spread(house), needed(house), cure(house)))
+            self.assertEqual((other.ended, spread(other), needed(other), cure(other)),
+                             (house.ended, spread(house), needed(house), cure(house)))
 
 
 class TestOtherSums(unittest.TestCase):
@@ -186,10 +189,12 @@ class TestOtherSums(unittest.TestCase):
             prices = drawn_prices(draw, shelf)
             for keeper in shelf.circle.names:
                 self.assertEqual(outcome(helping, other, keeper), outcome(helping, shelf, keeper))
-                self.assertEqual(outcome(cheapest_fetched, other, keeper, prices)[0], outcome(cheapest_fetched, shelf, keeper, prices)[0])
+                self.assertEqual(outcome(cheapest_fetched, other, keeper, prices)[0],
+                                 outcome(cheapest_fetched, shelf, keeper, prices)[0])
                 for helpers in all_helpers(shelf, keeper):
                     self.assertEqual(mends(other, keeper, helpers)[0], mends(shelf, keeper, helpers)[0])
-                    self.assertEqual(outcome(fewest_fetched, other, keeper, helpers)[0], outcome(fewest_fetched, shelf, keeper, helpers)[0])
+                    self.assertEqual(outcome(fewest_fetched, other, keeper, helpers)[0],
+                                     outcome(fewest_fetched, shelf, keeper, helpers)[0])
             for lost in all_lots(shelf.circle.names):
                 self.assertEqual(never_mended(other, lost), never_mended(shelf, lost))
                 self.assertEqual(outcome(cheapest_plan, other, lost, prices)[0], outcome(cheapest_plan, shelf, lost, prices)[0])
@@ -236,7 +241,8 @@ class TestMore(unittest.TestCase):
                         if name != keeper:
                             wider = shelf.circle.lot(helpers + (name,))
                             self.assertEqual(mends(shelf, keeper, wider)[0], "mended")
-                            self.assertLessEqual(fewest_fetched(shelf, keeper, wider)[0], fewest_fetched(shelf, keeper, helpers)[0])
+                            self.assertLessEqual(fewest_fetched(shelf, keeper, wider)[0],
+                                                 fewest_fetched(shelf, keeper, helpers)[0])
 
     def test_fewer_lost_keepers(self):
         for shelf in SOME:

@@ -5,8 +5,8 @@ import random
 import unittest
 
 from helper import deep, inside, junk
-from house_model import CROSSING, NO_BACKS, NO_STAMPS, WORDS, HouseChecks, Model, drawn_deed, drawn_houses, first_error, house_call
-from house_model import seen, sound_stores
+from house_model import CROSSING, NO_BACKS, NO_STAMPS, WORDS, HouseChecks, Model
+from house_model import drawn_deed, drawn_houses, first_error, house_call, seen, sound_stores
 from lotkeepers import errors
 from lotkeepers.errors import NoKeeper, NothingToRedo, Unsound
 from lotkeepers.houses import House
@@ -68,7 +68,8 @@ class TestDeeds(HouseChecks, unittest.TestCase):
         """All arguments of small sets, right ones and wrong ones, behind drawn deeds."""
         due = set()
         older, elder = House(ASKED), Model(ASKED)
-        for deed in (("fall", "c"), ("put", 0, "10"), ("put", 0, "11"), ("rise", "c"), ("lead", ASKED, 0, 0), ("fall", "d"), ("fall", "a")):
+        for deed in (("fall", "c"), ("put", 0, "10"), ("put", 0, "11"), ("rise", "c"), ("lead", ASKED, 0, 0), ("fall", "d"),
+                     ("fall", "a")):
             self.assertTrue(self.check_deed(older, elder, deed))
         for house, model in [(older, elder)] + list(drawn_houses(40, 83, 16)):
             names = model.first.shelf.circle.names
@@ -96,7 +97,8 @@ class TestDeeds(HouseChecks, unittest.TestCase):
             self.check_seen(house, model)
         for word, names in (("put", "NoLot BadRecord"), ("give", "NoStamp NoKeeper NotOf Down"), ("fall", "NoKeeper Down"),
                             ("rise", "NoKeeper IsUp"), ("lose", "NoKeeper Down"), ("mend", "NoKeeper BadHelpers Down"),
-                            ("read", "NoLot Down"), ("let_go", "NoStamp Unsafe"), ("lead", "OtherShelf Unsound Misses Older NoLot Down")):
+                            ("read", "NoLot Down"), ("let_go", "NoStamp Unsafe"),
+                            ("lead", "OtherShelf Unsound Misses Older NoLot Down")):
             for name in names.split() + [None]:
                 self.assertIn((word, name), due)
 
@@ -109,10 +111,12 @@ class TestDeeds(HouseChecks, unittest.TestCase):
         cases += [("give", value, "a") for value in NO_STAMPS] + [("give", 1, value) for value in NO_KEEPERS]
         cases += [(word, value) for word in ("fall", "rise", "lose") for value in NO_KEEPERS]
         cases += [("mend", value, ("b",)) for value in NO_KEEPERS]
-        cases += [("mend", "a", value) for value in [("b", "a"), ("a",), ["b"], ("c", "b"), ("b", "b"), "b", None, ("z",), True, {}, deep(30)]]
+        cases += [("mend", "a", value) for value in [("b", "a"), ("a",), ["b"], ("c", "b"), ("b", "b"), "b", None, ("z",),
+                                                     True, {}, deep(30)]]
         cases += [("read", value, None) for value in NO_BACKS + [None]] + [("read", 0, value) for value in NO_BACKS]
         cases += [("let_go", value) for value in NO_STAMPS + [2]] + [("lead", value, 0, 0) for value in NO_STORES + junk()]
-        cases += [("lead", CROSSING, value, 0) for value in NO_BACKS + [None]] + [("lead", CROSSING, 0, value) for value in NO_BACKS + [None]]
+        cases += [("lead", CROSSING, value, 0) for value in NO_BACKS + [None]] + [("lead", CROSSING, 0,
+                                                                                   value) for value in NO_BACKS + [None]]
         for deed in cases:
             self.assertFalse(self.check_deed(house, model, deed), deed)
             with self.assertRaises(errors.LotError) as caught:

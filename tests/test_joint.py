@@ -73,7 +73,8 @@ class TestJoint(Checks, unittest.TestCase):
         draw = random.Random(8)
         for _ in range(400):
             many = draw.choice(((4, 2), (2, 4), (3, 3), (4, 4)))
-            one, other = [store_of(SIX_KEEP, *[tuple(draw.sample(pairs, draw.randint(1, most))) for most in many]) for _ in range(2)]
+            one, other = [store_of(SIX_KEEP, *[tuple(draw.sample(pairs,
+                                                                 draw.randint(1, most))) for most in many]) for _ in range(2)]
             self.check_pair(one, other)
             seen.add(tuple(len(lots_of_both(names, *some)) for some in ((one.writes, other.writes), (one.asks, other.asks))))
         # Eight are not too many, nine are, of each kind by itself.
@@ -102,7 +103,8 @@ class TestByJoint(Checks, unittest.TestCase):
             word, way = by_joint(one=one, other=other)
             self.assertIs(type(way), tuple)
             self.assertEqual(way, (one, joint(one, other), other))
-            right = all(is_across(way[early], way[late]) for early, late in itertools.combinations_with_replacement(range(3), 2))
+            right = all(is_across(way[early], way[late]) for early, late in itertools.combinations_with_replacement(range(3),
+                                                                                                                    2))
             self.assertEqual(word, "led" if right else "copied")
             self.assertEqual(led(way)[0] == "led", right)
             self.check_same(copied(way), ("led",))
@@ -121,7 +123,8 @@ class TestByJoint(Checks, unittest.TestCase):
         draw = random.Random(1)
         seen = 0
         for _ in range(200):
-            one, other = [store_of(SIX_KEEP, tuple(draw.sample(fours, 3)), tuple(draw.sample(fours, draw.randint(1, 3)))) for _ in range(2)]
+            one, other = [store_of(SIX_KEEP, tuple(draw.sample(fours, 3)),
+                                   tuple(draw.sample(fours, draw.randint(1, 3)))) for _ in range(2)]
             if max(len(lots_of_both(names, one.writes, other.writes)), len(lots_of_both(names, one.asks, other.asks))) > 8:
                 seen += 1
                 self.check_raises(TooMany, 8, by_joint, one, other)

@@ -111,13 +111,16 @@ def variants(draw, lines):
         held[place], held[other] = held[other], held[place]
         return held
     if kind == 3:
-        more = draw.choice(["", "house", "fall a", "put 0 00", "read 0", "read 0 0", "undo", "mend", "mend a b", "letgo 0", "letgo 1", "x",
-                            "put 0 0", "rise a", "lose d", "keeper z x", "write a", "ask a", "audit", "lead a/a 0 0", "trial", "keep"])
+        more = draw.choice(["", "house", "fall a", "put 0 00", "read 0", "read 0 0", "undo", "mend", "mend a b", "letgo 0",
+                            "letgo 1", "x",
+                            "put 0 0", "rise a", "lose d", "keeper z x", "write a", "ask a", "audit", "lead a/a 0 0", "trial",
+                            "keep"])
         return lines[:place] + [more] + lines[place:]
     words = lines[place].split(" ")
     at = draw.randrange(len(words))
     if kind == 4:
-        words[at] = draw.choice(["a", "b", "0", "1", "2", "-1", "00", "+1", "01", "-0", "x", "put", "a.b", "a/b", "None", "1_0", "1.0", "9"])
+        words[at] = draw.choice(["a", "b", "0", "1", "2", "-1", "00", "+1", "01", "-0", "x", "put", "a.b", "a/b", "None",
+                                 "1_0", "1.0", "9"])
     if kind == 5:
         words.insert(at, "")
     if kind == 6:
@@ -236,25 +239,30 @@ class TestReadJournal(HouseChecks, unittest.TestCase):
 
     def test_each_line_out_and_twice(self):
         house = House(CROSSING)
-        for deed in (("fall", "b"), ("put", 0, "10"), ("rise", "b"), ("give", 1, "b"), ("lose", "a"), ("mend", "a", ("b", "c")), ("read", 0, 1),
+        for deed in (("fall", "b"), ("put", 0, "10"), ("rise", "b"), ("give", 1, "b"), ("lose", "a"),
+                     ("mend", "a", ("b", "c")), ("read", 0, 1),
                      ("let_go", 1), ("lead", CROSSING, 0, 1)):
             house_call(house, deed)
         lines = journal(house).split("\n")
         for place in range(len(lines)):
             for held in (lines[:place] + lines[place + 1:], lines[:place + 1] + lines[place:], lines[:place], lines[place:],
                          lines[:place] + ["house"] + lines[place:], lines[:place] + [""] + lines[place:],
-                         lines[:place] + [" " + lines[place]] + lines[place + 1:], lines[:place] + [lines[place] + " "] + lines[place + 1:],
+                         lines[:place] + [" " + lines[place]] + lines[place + 1:],
+                         lines[:place] + [lines[place] + " "] + lines[place + 1:],
                          lines[:place] + [lines[place].replace(" ", "  ", 1)] + lines[place + 1:]):
                 self.check_text("\n".join(held))
 
     def test_no_strings(self):
-        for value in [value for value in junk() if not isinstance(value, str)] + [[HEAD], (HEAD,), House(ASKED), ASKED, deep(30)]:
+        for value in [value for value in junk() if not isinstance(value, str)] + [[HEAD], (HEAD,), House(ASKED), ASKED,
+                                                                                  deep(30)]:
             self.check_raises(BadJournal, 0, read_journal, value)
             self.check_raises(BadJournal, 0, read_journal, text=value)
 
     def test_no_line_house(self):
-        for text, number in (("", 2), ("x", 2), ("\n", 3), (CROSSING.text, len(CROSSING.text.split("\n")) + 1), ("house ", 2), (" house", 2),
-                             ("House", 2), ("parts x\nparts x\nhouses", 4), (HEAD.replace("house", "hous") + "fall a", FIRST_LINE + 1)):
+        for text, number in (("", 2), ("x", 2), ("\n", 3), (CROSSING.text, len(CROSSING.text.split("\n")) + 1), ("house ", 2),
+                             (" house", 2),
+                             ("House", 2), ("parts x\nparts x\nhouses", 4),
+                             (HEAD.replace("house", "hous") + "fall a", FIRST_LINE + 1)):
             self.check_raises(BadJournal, number, read_journal, text)
             self.assertEqual(wrong_number(text), number)
 
@@ -285,22 +293,32 @@ class TestReadJournal(HouseChecks, unittest.TestCase):
 
     def test_forms(self):
         """Lines that have no form, or words otherwise."""
-        for line in ("", " ", "put", "put 0", "put 0 00 0", "put  0 00", "put 0  00", " put 0 00", "put 0 00 ", "Put 0 00", "put +0 00", "put -0 00",
-                     "put 00 00", "put 0x0 00", "put 0.0 00", "put 0_0 00", "put a 00", "put -1 00", "put 2 00", "put 0 0", "put 0 000", "put 0 02",
-                     "put 00 0", "give", "give 1", "give 1 a", "give 0 a", "fall", "fall z", "fall a b", "rise", "rise a", "rise z", "lose", "lose z",
-                     "lose a b", "mend", "mend ", "mend z", "mend a a", "mend a c b", "mend a b b", "mend a z", "mend  a", "mend a  b", "read", "read 0",
-                     "read 0 0 0", "read 0 None", "read 0 2", "read 4 0", "read -1 0", "read 0 -1", "read +0 0", "read 00 0", "letgo", "letgo 0",
-                     "letgo 1", "letgo 1 1", "let_go 1", "lead", "lead a 0 0", "lead a/a 0 0", "lead a.b.c/a.b 0", "lead a.b.c/a.b 0 0 0",
-                     "lead a.b.c/a.b 0 1", "lead a.b.c/a.b 4 0", "lead a.b.c/a.b +0 0", "lead a.b.c/ 0 0", "lead /a.b 0 0", "lead a.b.c//a.b 0 0",
-                     "lead a.b.c/a.b/ 0 0", "lead a.b.c,/a.b 0 0", "lead a.b.c./a.b 0 0", "lead a..b.c/a.b 0 0", "lead b.a.c/a.b 0 0",
-                     "lead a.b.c,a.b.c/a.b 0 0", "lead a.b.c/a.b,a.b 0 0", "lead a.b.c/a.z 0 0", "undo", "redo", "audit", "ended", "down", "holds a",
+        for line in ("", " ", "put", "put 0", "put 0 00 0", "put  0 00", "put 0  00", " put 0 00", "put 0 00 ", "Put 0 00",
+                     "put +0 00", "put -0 00",
+                     "put 00 00", "put 0x0 00", "put 0.0 00", "put 0_0 00", "put a 00", "put -1 00", "put 2 00", "put 0 0",
+                     "put 0 000", "put 0 02",
+                     "put 00 0", "give", "give 1", "give 1 a", "give 0 a", "fall", "fall z", "fall a b", "rise", "rise a",
+                     "rise z", "lose", "lose z",
+                     "lose a b", "mend", "mend ", "mend z", "mend a a", "mend a c b", "mend a b b", "mend a z", "mend  a",
+                     "mend a  b", "read", "read 0",
+                     "read 0 0 0", "read 0 None", "read 0 2", "read 4 0", "read -1 0", "read 0 -1", "read +0 0", "read 00 0",
+                     "letgo", "letgo 0",
+                     "letgo 1", "letgo 1 1", "let_go 1", "lead", "lead a 0 0", "lead a/a 0 0", "lead a.b.c/a.b 0",
+                     "lead a.b.c/a.b 0 0 0",
+                     "lead a.b.c/a.b 0 1", "lead a.b.c/a.b 4 0", "lead a.b.c/a.b +0 0", "lead a.b.c/ 0 0", "lead /a.b 0 0",
+                     "lead a.b.c//a.b 0 0",
+                     "lead a.b.c/a.b/ 0 0", "lead a.b.c,/a.b 0 0", "lead a.b.c./a.b 0 0", "lead a..b.c/a.b 0 0",
+                     "lead b.a.c/a.b 0 0",
+                     "lead a.b.c,a.b.c/a.b 0 0", "lead a.b.c/a.b,a.b 0 0", "lead a.b.c/a.z 0 0", "undo", "redo", "audit",
+                     "ended", "down", "holds a",
                      "house", "keep", "trial", "keeper a x", "write a", "ask a", "parts x y", "# fall a", "fall a # b"):
             self.check_raises(BadJournal, FIRST_LINE, read_journal, HEAD + line)
             self.check_raises(BadJournal, FIRST_LINE + 1, read_journal, HEAD + "lose a\n" + line)
             self.assertEqual(wrong_number(HEAD + line), FIRST_LINE, line)
 
     def test_right_lines(self):
-        for line in ("put 0 00", "put 1 11", "fall a", "lose d", "mend a", "mend a b c d", "mend d a", "read 0 0", "read 3 1", "lead a.b.c/a.b 0 0",
+        for line in ("put 0 00", "put 1 11", "fall a", "lose d", "mend a", "mend a b c d", "mend d a", "read 0 0", "read 3 1",
+                     "lead a.b.c/a.b 0 0",
                      "lead a.b.c,a.b.c.d/a.b,b.c,a.c.d,a.b.c 3 1", "lead a.b.c.d/a.b,a.c,b.c 0 0"):
             self.check_same(journal(read_journal(HEAD + line)), HEAD + line)
             self.assertIsNone(wrong_number(HEAD + line))

@@ -21,13 +21,17 @@ SECOND = store_of(SHELF, (("a", "b", "d"),), (("b", "d"),))
 THIRD = store_of(SHELF, (("b", "d"),), (("c", "d"),))
 OTHER = store_of(Shelf("parts x y\nkeeper a x\nkeeper b y\nkeeper c x+y\nkeeper d y x"), (("a", "b"),), (("a", "b", "d"),))
 NO_STORES = [
-    FIRST.text, FIRST.shelf, SHELF, FIRST.writes, (FIRST,), [FIRST], {}, None, True, 0, "", (), OTHER, FEW, deep(30), {"a": FIRST},
+    FIRST.text, FIRST.shelf, SHELF, FIRST.writes, (FIRST,), [FIRST], {}, None, True, 0, "", (), OTHER, FEW, deep(30),
+    {"a": FIRST},
     store_of(Shelf("parts y x\nkeeper a x\nkeeper b y\nkeeper c y+x\nkeeper d x y"), FIRST.writes, FIRST.asks),
 ]
 NO_WAYS = [
-    (), (FIRST,), [FIRST, SECOND], (FIRST,) * 7, None, True, 0, "", "ab", {}, FIRST, (FIRST, OTHER), (OTHER, FIRST), (FIRST, FIRST, OTHER),
-    (FIRST, SECOND.text), (FIRST, SHELF), (FIRST, None), (None, FIRST), (FIRST, (SECOND,)), ((FIRST, SECOND),), (FIRST, [SECOND]),
-    (FIRST, SECOND, 1), (SHELF, SHELF), (FIRST.text, SECOND.text), deep(30), (deep(30), deep(30)), (FIRST, FEW), {0: FIRST, 1: SECOND},
+    (), (FIRST,), [FIRST, SECOND], (FIRST,) * 7, None, True, 0, "", "ab", {}, FIRST, (FIRST, OTHER), (OTHER, FIRST),
+    (FIRST, FIRST, OTHER),
+    (FIRST, SECOND.text), (FIRST, SHELF), (FIRST, None), (None, FIRST), (FIRST, (SECOND,)), ((FIRST, SECOND),),
+    (FIRST, [SECOND]),
+    (FIRST, SECOND, 1), (SHELF, SHELF), (FIRST.text, SECOND.text), deep(30), (deep(30), deep(30)), (FIRST, FEW),
+    {0: FIRST, 1: SECOND},
     ("led",), (FIRST, True), (FIRST, SECOND, THIRD, FIRST, SECOND, THIRD, FIRST),
 ]
 
@@ -139,7 +143,8 @@ class TestAcross(Checks, unittest.TestCase):
                       ("misses", 0, False, "01"), ("misses", -1, 0, "10"), ("misses", 0, -1, "10"), ("misses", 0, 0, "00")):
             self.assertIs(shows_across(one, other, value), False, value)
         self.assertEqual(across(other, one)[:3], ("misses", 0, 0))
-        self.assertEqual(across(store_of(SHELF, one.writes[1:2], one.asks), store_of(SHELF, other.writes, other.asks[:1]))[0], "across")
+        self.assertEqual(across(store_of(SHELF, one.writes[1:2], one.asks), store_of(SHELF, other.writes, other.asks[:1]))[0],
+                         "across")
 
     def test_a_store_and_itself(self):
         for one in (FIRST, SECOND, STORE, SMALL, FEW, FULL):

@@ -18,7 +18,8 @@ ALL = SHELVES[:3] + SHELVES[4:] + NEVER + [FIVE, TWO_EACH] + list(small_shelves(
 SUMS = ((("a", 0), ("b", 0)),)
 ANSWERS = (("a", "1"), ("b", "1"))
 NO_HELPERS = NO_LOT + [
-    ("c",), ("a", "c"), ("c", "d"), ("a", "b", "c", "d"), [], "", ["a", "b"], ("a", True), ("a", None), (("a", 0),), SHELF, (SHELF,),
+    ("c",), ("a", "c"), ("c", "d"), ("a", "b", "c", "d"), [], "", ["a", "b"], ("a", True), ("a", None), (("a", 0),), SHELF,
+    (SHELF,),
     SHELF.circle, ("d", "b", "a"),
 ]
 
@@ -34,7 +35,8 @@ def others_of(shelf, keeper):
 def hidden(shelf, keeper, number, helpers):
     """All records on which the piece has the value 1, and all pieces of the helpers the value 0."""
     piece = pieces_of(shelf, keeper)[number]
-    return [record for record in all_records(shelf) if value_of(shelf, piece, record) and not any(told_by(shelf, helpers, record))]
+    return [record for record in all_records(shelf) if value_of(shelf, piece,
+                                                                record) and not any(told_by(shelf, helpers, record))]
 
 
 def is_lost(shelf, keeper, number, helpers):

@@ -18,10 +18,13 @@ SECOND = store_of(SHELF, (("a", "b", "d"),), (("b", "d"),))
 PAIR = store_of(Shelf("parts x\nkeeper a x\nkeeper b x"), (("a",), ("b",)), (("a", "b"),))
 SIX_STORE = store_of(SIX_KEEP, (SIX_KEEP.circle.names,), (SIX_KEEP.circle.names,))
 EVERY = STORES + [SECOND, PAIR, SIX_STORE] + list(drawn_stores(150))
-NO_NAMES = ["a", "d", "", "A", "abcdefghi", "a b", "e ", "e1", "e+", None, True, 0, 1, ("e",), ["e"], {}, (), deep(30), SHELF, "e\n"]
+NO_NAMES = ["a", "d", "", "A", "abcdefghi", "a b", "e ", "e1", "e+", None, True, 0, 1, ("e",), ["e"], {}, (), deep(30), SHELF,
+            "e\n"]
 NO_PIECES = [
-    (), [], None, True, 0, "", "x", "xy", {}, ("x",), ("x", "y"), [("x",)], (["x"],), (("x",), ["y"]), (("x",), ("y",), ("x",)), ((),),
-    (("x",), ()), (("z",),), (("y", "x"),), (("x", "x"),), (("x", "z"),), (("x",), None), (("x",), "y"), ((1,),), ((True,),), ((None,),),
+    (), [], None, True, 0, "", "x", "xy", {}, ("x",), ("x", "y"), [("x",)], (["x"],), (("x",), ["y"]),
+    (("x",), ("y",), ("x",)), ((),),
+    (("x",), ()), (("z",),), (("y", "x"),), (("x", "x"),), (("x", "z"),), (("x",), None), (("x",), "y"), ((1,),), ((True,),),
+    ((None,),),
     ((("x",),),), (("x+y",),), deep(30), (deep(30),), SHELF, (SHELF,), (("",),), (("a",),), {("x",): 1},
 ]
 
@@ -88,7 +91,8 @@ class TestWithout(Checks, unittest.TestCase):
             self.assertGreater(words.count(word), 8, word)
 
     def test_of_alike_lots_the_first_stays(self):
-        store = store_of(SHELF, (("a", "d"), ("b", "d"), ("d",), ("a", "b", "d"), ("b", "c")), (("a", "b", "d"), ("b", "d"), ("a", "c", "d")))
+        store = store_of(SHELF, (("a", "d"), ("b", "d"), ("d",), ("a", "b", "d"), ("b", "c")),
+                         (("a", "b", "d"), ("b", "d"), ("a", "c", "d")))
         made = without_keeper(store, "a")
         self.check_same((made.writes, made.asks), ((("d",), ("b", "d"), ("b", "c")), (("b", "d"), ("c", "d"))))
         made = without_keeper(store, "c")
@@ -146,7 +150,8 @@ class TestWith(Checks, unittest.TestCase):
         self.assertEqual(len(store.shelf.circle), 6)
         self.check_raises(TooManyKeepers, 6, with_keeper, store, "g", (("x",),))
         self.check_raises(TooManyKeepers, 6, with_keeper, SIX_STORE, "g", (("x",), ("x",)))
-        self.check_raises(TooManyKeepers, 6, with_keeper, store_of(SHELVES[3], (("a",),), (("a",),)), "g", (("w", "x", "y", "z"),))
+        self.check_raises(TooManyKeepers, 6, with_keeper, store_of(SHELVES[3], (("a",),), (("a",),)), "g",
+                          (("w", "x", "y", "z"),))
 
     def test_wrong_ones(self):
         for store in (SECOND, FULL):

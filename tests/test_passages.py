@@ -21,13 +21,17 @@ from test_stores import STORE
 BOTH = joint(FIRST, THIRD)
 STEPS = ((BOTH, 4), (SECOND, 1))
 NO_STEPS = [
-    (), [], None, True, 0, "", "ab", {}, list(STEPS), STEPS[0], (list(STEPS[0]),), (STEPS,), ((BOTH,),), ((BOTH, 1, 1),), (BOTH,), (BOTH, 1),
-    ((BOTH, 0),), ((BOTH, 10),), ((BOTH, True),), ((BOTH, False),), ((BOTH, "1"),), ((BOTH, None),), ((BOTH, (1,)),), ((BOTH, -1),),
+    (), [], None, True, 0, "", "ab", {}, list(STEPS), STEPS[0], (list(STEPS[0]),), (STEPS,), ((BOTH,),), ((BOTH, 1, 1),),
+    (BOTH,), (BOTH, 1),
+    ((BOTH, 0),), ((BOTH, 10),), ((BOTH, True),), ((BOTH, False),), ((BOTH, "1"),), ((BOTH, None),), ((BOTH, (1,)),),
+    ((BOTH, -1),),
     ((1, BOTH),), ((BOTH.text, 1),), ((SHELF, 1),), ((OTHER, 1),), ((BOTH, 1), (OTHER, 1)), ((BOTH, 1), (BOTH, 2)),
-    ((BOTH, 1), (SECOND, 1), (Store(BOTH.text), 1)), ((BOTH, 1), None), ((BOTH, 1), [SECOND, 1]), (([BOTH], 1),), deep(30), (deep(30),),
+    ((BOTH, 1), (SECOND, 1), (Store(BOTH.text), 1)), ((BOTH, 1), None), ((BOTH, 1), [SECOND, 1]), (([BOTH], 1),), deep(30),
+    (deep(30),),
     (("a", 1),), ((None, 1),), {BOTH.text: 1}, ((BOTH, 999999999),),
 ]
-FIVE_STORES = tuple((store_of(SHELF, (lot,), (("a", "b", "c", "d"),)), 1) for lot in (("a", "b"), ("a", "c"), ("b", "c"), ("d",), ("a", "d")))
+FIVE_STORES = tuple((store_of(SHELF, (lot,), (("a", "b", "c", "d"),)), 1) for lot in (("a", "b"), ("a", "c"), ("b", "c"),
+                                                                                      ("d",), ("a", "d")))
 
 
 @functools.lru_cache(None)
@@ -46,7 +50,8 @@ def all_rows(steps):
 
 
 def right_one(one, other, steps):
-    rows = [(sum(steps[number][1] for number in row), len(row), row) for row in all_rows(steps) if can_pass(one, steps, row, other)]
+    rows = [(sum(steps[number][1] for number in row), len(row), row) for row in all_rows(steps) if can_pass(one, steps, row,
+                                                                                                            other)]
     if rows:
         price, _, row = min(rows)
         return ("passage", price, row)
@@ -98,7 +103,8 @@ class TestPassage(Checks, unittest.TestCase):
                         [[late - early in (0, 1) for late in range(6)] for early in range(6)])
         for row in itertools.permutations(range(1, 5)):
             steps = tuple((chain[place], place) for place in row)
-            self.check_same(passage(chain[0], chain[5], steps), ("passage", 10, tuple(row.index(place) for place in range(1, 5))))
+            self.check_same(passage(chain[0], chain[5], steps), ("passage", 10,
+                                                                 tuple(row.index(place) for place in range(1, 5))))
             self.check_same(passage(chain[5], chain[0], steps), ("never", ()))
             self.check_same(passage(chain[3], chain[1], steps), ("never", tuple(sorted((row.index(3), row.index(4))))))
             for many in range(1, 4):
@@ -168,7 +174,9 @@ class TestPassage(Checks, unittest.TestCase):
             # Also if the straight way is open.
             self.check_refuses(BadSteps, NO_STEPS, lambda value: call(FIRST, FIRST, value))
         for value in near(((1, 4),)):
-            held = tuple((BOTH,) + row[1:] if type(row) is tuple and row[:1] == (1,) else row for row in value) if type(value) is tuple else value
+            held = tuple((BOTH,) + row[1:] if type(row) is tuple and row[:1] == (1,
+                                                                                 ) else row
+                         for row in value) if type(value) is tuple else value
             fine = type(held) is tuple and len(held) == 1 and type(held[0]) is tuple and len(held[0]) == 2 \
                 and isinstance(held[0][0], Store) and type(held[0][1]) is int and 1 <= held[0][1] <= 9
             if not fine:

@@ -65,7 +65,8 @@ def gone_records(shelf, lost, mended):
     """All records of which nobody tells anything who has pieces, and some other keeper does."""
     others = tuple(name for name in lost if name not in mended)
     having = outside(shelf, others)
-    return [record for record in all_records(shelf) if not any(told_by(shelf, having, record)) and any(told_by(shelf, others, record))]
+    return [record for record in all_records(shelf) if not any(told_by(shelf, having, record)) and any(told_by(shelf, others,
+                                                                                                               record))]
 
 
 class TestPlan(Checks, unittest.TestCase):
@@ -105,7 +106,8 @@ class TestPlan(Checks, unittest.TestCase):
         for shelf in SMALL_ONES:
             self.check_same(plan(shelf, ()), ("plan", ()))
             self.assertIs(shows_plan(shelf, (), ("plan", ())), True)
-            for value in (("plan", []), ("plan",), ("never", (), "11"), ("plan", ((),)), ("plan", (("a", ("b",)),)), ["plan", ()]):
+            for value in (("plan", []), ("plan",), ("never", (), "11"), ("plan", ((),)), ("plan", (("a", ("b",)),)),
+                          ["plan", ()]):
                 self.assertIs(shows_plan(shelf, (), value), False)
 
     def test_everybody_lost_everything(self):
@@ -116,8 +118,10 @@ class TestPlan(Checks, unittest.TestCase):
                 self.assertIs(shows_plan(shelf, shelf.circle.names, ("never", (), record)), right)
 
     def test_mended_keepers_help(self):
-        for value in ((("a", ("d",)), ("b", ("a", "c"))), (("b", ("a", "c")), ("a", ("d",))), (("b", ("d",)), ("a", ("b", "c"))),
-                      (("a", ("c", "d")), ("b", ("a", "c", "d"))), (("a", ("b", "c")), ("b", ("d",))), (("a", ("d",)), ("b", ("b", "d"))),
+        for value in ((("a", ("d",)), ("b", ("a", "c"))), (("b", ("a", "c")), ("a", ("d",))),
+                      (("b", ("d",)), ("a", ("b", "c"))),
+                      (("a", ("c", "d")), ("b", ("a", "c", "d"))), (("a", ("b", "c")), ("b", ("d",))),
+                      (("a", ("d",)), ("b", ("b", "d"))),
                       (("a", ("d",)), ("a", ("d",))), (("a", ("d",)),), (("a", ("d",)), ("b", ("d",)), ("c", ("d",))),
                       (("a", ("d",)), ("c", ("d",))), (("a", ("a", "d")), ("b", ("d",))), (("a", ["d"]), ("b", ("d",))),
                       (("a", ("d",)), ("b", ("c", "a"))), (("a", ("d", "c")), ("b", ("d",))), (("a", ("z",)), ("b", ("d",)))):
@@ -128,8 +132,10 @@ class TestPlan(Checks, unittest.TestCase):
     def test_some_can_be_mended(self):
         shelf = Shelf("parts x y\nkeeper a x\nkeeper b x\nkeeper c y\nkeeper d x+y")
         self.check_same(plan(shelf, ("a", "c", "d")), ("never", ("a",), "01"))
-        for value in (("never", (), "01"), ("never", ("a", "c"), "01"), ("never", ["a"], "01"), ("never", ("a",), "10"), ("never", ("a",), "00"),
-                      ("never", ("a",), "11"), ("never", ("a",), 1), ("never", ("a",)), ("plan", ()), ("plan", (("a", ("b",)),)),
+        for value in (("never", (), "01"), ("never", ("a", "c"), "01"), ("never", ["a"], "01"), ("never", ("a",), "10"),
+                      ("never", ("a",), "00"),
+                      ("never", ("a",), "11"), ("never", ("a",), 1), ("never", ("a",)), ("plan", ()),
+                      ("plan", (("a", ("b",)),)),
                       ("plan", (("a", ("b",)), ("c", ("a", "b")), ("d", ("a", "b"))))):
             self.assertIs(shows_plan(shelf, ("a", "c", "d"), value), False, value)
 

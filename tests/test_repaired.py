@@ -38,7 +38,8 @@ class TestAfter(Checks, unittest.TestCase):
         self.check_same(after(STORE, ("a",)), ((0, 1), (0, 1, 2)))
         self.check_same(left(STORE, ("a",)), ((1,), ()))
         # Without a plan the two are alike, though some of the lost ones could be mended.
-        never = store_of(Shelf("parts x y\nkeeper a x\nkeeper b x\nkeeper c y\nkeeper d y"), (("a",), ("b",), ("c",)), (("a", "b"), ("d",)))
+        never = store_of(Shelf("parts x y\nkeeper a x\nkeeper b x\nkeeper c y\nkeeper d y"), (("a",), ("b",), ("c",)),
+                         (("a", "b"), ("d",)))
         self.assertEqual(plan(never.shelf, ("a", "c", "d"))[:2], ("never", ("a",)))
         self.check_same(after(never, ("a", "c", "d")), ((1,), ()))
         self.check_same(after(never, ("a", "c")), ((0, 1, 2), (0, 1)))

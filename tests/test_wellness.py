@@ -135,7 +135,8 @@ class TestWellness(HouseChecks, unittest.TestCase):
         house.put(0, "0")
         self.check_same(cure(house), (("a", (1, 2)), ("ab", (1, 2)), ("b", (1, 2))))
         house.lose("zz")
-        self.check_same((cure(house), audit(house), spread(house), needed(house)), ((), ("ill", 0, 0), ((), ()), (False, False)))
+        self.check_same((cure(house), audit(house), spread(house), needed(house)),
+                        ((), ("ill", 0, 0), ((), ()), (False, False)))
 
     def test_needed_is_by_what_lots_bring_now(self):
         shelf = Shelf("parts x\nkeeper a x\nkeeper b x\nkeeper c x")

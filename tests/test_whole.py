@@ -95,7 +95,8 @@ class TestBesideRuns(Checks, unittest.TestCase):
             for keeper in store.shelf.circle.names:
                 self.check_same(run.has(keeper), house.holds(keeper))
             # In a house, what reads give again counts for the end of writes as well.
-            self.assertLessEqual({stamp for stamp, row in enumerate(run.writes, start=1) if row[3] is not None}, set(house.ended))
+            self.assertLessEqual({stamp for stamp, row in enumerate(run.writes, start=1) if row[3] is not None},
+                                 set(house.ended))
             self.check_same(missed(run), ("none",))
             for stamp, right in zip(brought, owed(run)):
                 self.assertGreaterEqual(stamp, right)
@@ -109,7 +110,8 @@ class TestBesideRuns(Checks, unittest.TestCase):
         house.fall("c")
         house.put(0, "10")
         house.rise("c")
-        run = Run(CROSSING, (("write", 0, "10"), ("give", 1, "a"), ("give", 1, "b"), ("read", 0, None), ("ask", 0, "a"), ("ask", 0, "b")))
+        run = Run(CROSSING, (("write", 0, "10"), ("give", 1, "a"), ("give", 1, "b"), ("read", 0, None), ("ask", 0, "a"),
+                             ("ask", 0, "b")))
         two = Run(CROSSING, doubled(run))
         house.read(0, 0)
         self.check_same([two.has(keeper) for keeper in "abcd"], [house.holds(keeper) for keeper in "abcd"])
@@ -274,7 +276,8 @@ class TestLosses(Checks, unittest.TestCase):
                     record = house.records[stamp - 1]
                     answers = tuple((name, answer(shelf, name, record)) for name in helpers)
                     self.check_same(made(shelf, keeper, found[1], answers), answer(shelf, keeper, record))
-                    self.assertLessEqual(fewest_fetched(shelf, keeper, helpers)[0], len({spot for spots in found[1] for spot in spots}))
+                    self.assertLessEqual(fewest_fetched(shelf, keeper, helpers)[0],
+                                         len({spot for spots in found[1] for spot in spots}))
 
     def test_what_is_let_go_is_as_holders_tell(self):
         for house, _ in drawn_houses(100, 69, 12):
@@ -294,7 +297,9 @@ class TestChanges(Checks, unittest.TestCase):
     def freest_offers(self, draw, store):
         """At most four offers of lots that serve those of the store."""
         writes, asks = freed(store)
-        every = [("write", lot) for lot in writes if lot and lot not in store.writes] + [("ask", lot) for lot in asks if lot not in store.asks]
+        every = [("write", lot) for lot in writes if lot and lot not in store.writes] + [("ask",
+                                                                                          lot) for lot in asks
+                                                                                         if lot not in store.asks]
         return tuple(offer + (draw.randint(1, 9),) for offer in draw.sample(every, min(4, len(every))))
 
     def test_led_to_by_the_cheapest_choice(self):
@@ -337,7 +342,8 @@ class TestChanges(Checks, unittest.TestCase):
             house.lead(other, 0, 0)
             house.fall(keeper)
             write, ask = [left(other, (keeper,))[kind][0] for kind in (0, 1)]
-            self.check_same((house.put(write, "01"), house.read(ask, None), house.ended, audit(house)), (2, 2, (1, 2), ("well",)))
+            self.check_same((house.put(write, "01"), house.read(ask, None), house.ended, audit(house)),
+                            (2, 2, (1, 2), ("well",)))
 
     def test_keepers_that_come_and_go(self):
         for store in sound_stores(60):
