@@ -189,11 +189,11 @@ class House:
 
 
 class Trial:
-    """A block of a house: what it was when the block was entered."""
+    """A block of a house: what it was when the block was entered. kept is None until the block is kept."""
 
     def __init__(self, house):
         self.house = house
-        self.kept = False
+        self.kept = None
 
     def __enter__(self):
         house = self.house
@@ -210,7 +210,7 @@ class Trial:
     def __exit__(self, kind, value, trace):
         house = self.house
         house.block = self.outer
-        if kind is not None or not self.kept:
+        if kind is not None or self.kept is None:
             house.log = self.log
             house.store = self.store
             house.records = self.records

@@ -330,9 +330,11 @@ class TestBlocks(unittest.TestCase):
     def check_rows(self, name, rows):
         for row in rows:
             if isinstance(row, ast.If):
-                kinds = (ast.BoolOp, ast.UnaryOp, ast.Compare, ast.Name, ast.Attribute, ast.Constant, ast.boolop, ast.Not,
-                         ast.Is, ast.IsNot, ast.Load)
+                kinds = (ast.BoolOp, ast.Compare, ast.Name, ast.Attribute, ast.Constant, ast.boolop, ast.Is, ast.IsNot, ast.Load)
                 self.assertTrue(all(isinstance(node, kinds) for node in ast.walk(row.test)), name)
+                # Beside classes with __eq__ or __len__ nothing is tested alone, but for being None.
+                tests = row.test.values if isinstance(row.test, ast.BoolOp) else [row.test]
+                self.assertTrue(all(isinstance(node, ast.Compare) for node in tests), name)
                 self.check_rows(name, row.body + row.orelse)
             else:
                 self.assertIsInstance(row, ast.Assign, name)
