@@ -4,6 +4,13 @@ import importlib
 import inspect
 import unittest
 
+from lotkeepers.circles import Circle
+from lotkeepers.desk import Desk
+from lotkeepers.houses import House
+from lotkeepers.runs import Run
+from lotkeepers.shelves import Shelf
+from lotkeepers.stores import Store
+
 FUNCTIONS = {
     "circles": {"lots": "circle", "both": "circle one other", "either": "circle one other"},
     "families": {
@@ -95,6 +102,12 @@ CLASSES = {
     },
     ("desk", "Desk"): {"__init__": "self text", "say": "self line"},
 }
+STORE_TEXT = "parts x\nkeeper a x\nkeeper b x\nwrite a\nask a b"
+ATTRIBUTES = [
+    (Circle(("a", "b")), "names"), (Shelf("parts x\nkeeper a x\nkeeper b x"), "text parts circle pieces"),
+    (Store(STORE_TEXT), "text shelf writes asks"), (Run(Store(STORE_TEXT), ()), "store deeds writes reads"),
+    (House(Store(STORE_TEXT)), "store first records ended down done"), (Desk(STORE_TEXT + "\nhouse"), "house"),
+]
 
 
 def words(call):
@@ -122,6 +135,11 @@ class TestInterface(unittest.TestCase):
                 by_name = [row for row in kinds if kinds[row] is not inspect.Parameter.POSITIONAL_OR_KEYWORD]
                 # Only what stands behind a `*` is passed by name alone.
                 self.assertEqual(by_name, ["keep"] if method == "tried" else [], (name, method))
+
+    def test_attributes_are_set_when_an_object_is_created(self):
+        for held, names in ATTRIBUTES:
+            for name in names.split():
+                self.assertIn(name, vars(held), type(held))
 
 
 if __name__ == "__main__":
